@@ -83,7 +83,7 @@ func suits(name string, args []api.Term) bool {
 	case "[]":
 		return len(args) == 0
 	case "!.":
-		return len(args) != 1 || args[0].Kind == api.TVar
+		return len(args) == 1 && args[0].Kind == api.TVar
 	}
 	return true
 }

@@ -16,8 +16,8 @@ func TestCheck(t *testing.T) {
 	}{
 		{variab("X"), api.OK}, {variab("_"), api.OK}, {variab("_1aB"), api.OK}, {variab("A" + most[1:]), api.OK}, {num(api.MaxInt), api.OK}, {num(-api.MaxInt), api.OK}, {num(0), api.OK},
 		{char(9), api.OK}, {char(10), api.OK}, {char(32), api.OK}, {char(126), api.OK}, {str(""), api.OK}, {str("a\t\n ~"), api.OK}, {str(strings.Repeat("a", 70000)), api.OK},
-		{app("a"), api.OK}, {app("a b"), api.OK}, {app("A"), api.OK}, {app("a.b"), api.OK}, {app(".."), api.OK}, {app("=.."), api.OK}, {app("!."), api.OK}, {app("!"), api.OK}, {app("/*"), api.OK}, {app("'\\"), api.OK}, {app(","), api.OK}, {app(" "), api.OK}, {app("~"), api.OK},
-		{app(most + "." + most), api.OK}, {app(most, app("a")), api.OK}, {app("{}", app("a")), api.OK}, {app("[|]", app("a"), app("b")), api.OK}, {app("[]"), api.OK}, {app("!.", variab("X")), api.OK}, {app("!.", num(1), num(1)), api.OK}, {app("!", num(1)), api.OK}, {app("!:", num(1)), api.OK},
+		{app("a"), api.OK}, {app("a b"), api.OK}, {app("A"), api.OK}, {app("a.b"), api.OK}, {app(".."), api.OK}, {app("=.."), api.OK}, {app("!"), api.OK}, {app("/*"), api.OK}, {app("'\\"), api.OK}, {app(","), api.OK}, {app(" "), api.OK}, {app("~"), api.OK},
+		{app(most + "." + most), api.OK}, {app(most, app("a")), api.OK}, {app("{}", app("a")), api.OK}, {app("[|]", app("a"), app("b")), api.OK}, {app("[]"), api.OK}, {app("!.", variab("X")), api.OK}, {app("!", num(1)), api.OK}, {app("!:", num(1)), api.OK},
 		{app("f", some(32)...), api.OK}, {app("call", some(32)...), api.OK}, {app("call", append([]api.Term{variab("X")}, some(32)...)...), api.OK},
 		{api.Term{Kind: api.TApp, Name: "a", At: -3}, api.OK}, {api.Term{Kind: api.TVar, Name: "X", Args: []api.Term{}}, api.OK},
 		// kinds
@@ -31,6 +31,7 @@ func TestCheck(t *testing.T) {
 		{app(""), api.ErrForm}, {app("\n"), api.ErrForm}, {app("a\t"), api.ErrForm}, {app("a\x7f"), api.ErrForm}, {app("\x80"), api.ErrForm}, {app("."), api.ErrForm}, {app("a.B"), api.ErrForm}, {app("a."), api.ErrForm}, {app(".a"), api.ErrForm}, {app("a b.c"), api.ErrForm}, {app("/*."), api.ErrForm}, {app("!.X"), api.ErrForm}, {app("X.y"), api.ErrForm},
 		// arguments
 		{app("{}"), api.ErrForm}, {app("{}", some(2)...), api.ErrForm}, {app("[|]"), api.ErrForm}, {app("[|]", some(1)...), api.ErrForm}, {app("[|]", some(3)...), api.ErrForm}, {app("[]", app("a")), api.ErrForm}, {app("[]", some(40)...), api.ErrForm}, {app("!.", app("a")), api.ErrForm}, {app("!.", api.Term{Kind: 9}), api.ErrForm},
+		{app("!."), api.ErrForm}, {app("!.", variab("X"), variab("X")), api.ErrForm}, {app("!.", num(1), num(1)), api.ErrForm}, {app("!.", append([]api.Term{variab("X")}, some(32)...)...), api.ErrForm}, {app("f", app("!.")), api.ErrForm},
 		// ranges
 		{num(api.MaxInt + 1), api.ErrRange}, {num(-api.MaxInt - 1), api.ErrRange}, {num(-1 << 63), api.ErrRange}, {char(8), api.ErrRange}, {char(11), api.ErrRange}, {char(31), api.ErrRange}, {char(127), api.ErrRange}, {char(-1), api.ErrRange}, {char(256 + 97), api.ErrRange}, {str("a\x00"), api.ErrRange}, {str("\x7f"), api.ErrRange}, {str("\xff"), api.ErrRange},
 		// limits

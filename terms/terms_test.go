@@ -205,6 +205,9 @@ func TestTokenFaults(t *testing.T) {
 		{[]api.Token{tok(api.TokInt, "1"), {Kind: api.TokPunct, Text: "((", At: 3}}, api.Fault{At: 3, Code: api.ErrSyntax}},
 		{[]api.Token{{Kind: api.TokName, Text: "!.", At: 3}, punc("(("), name("a"), punc(")"), stop()}, api.Fault{At: 3, Code: api.ErrSyntax}},
 		{[]api.Token{{Kind: api.TokName, Text: "!.", At: 3}, punc("(("), name("a"), punc(")"), name("b")}, api.Fault{At: 3, Code: api.ErrSyntax}},
+		{[]api.Token{{Kind: api.TokName, Text: "!.", At: 3}, stop()}, api.Fault{At: 3, Code: api.ErrSyntax}},
+		{[]api.Token{{Kind: api.TokName, Text: "!.", At: 3}, punc("(("), tok(api.TokVar, "X"), punc(","), tok(api.TokVar, "X"), punc(")"), stop()}, api.Fault{At: 3, Code: api.ErrSyntax}},
+		{[]api.Token{name("a"), name("-"), {Kind: api.TokName, Text: "!.", At: 3}, punc(")")}, api.Fault{At: 3, Code: api.ErrSyntax}},
 	} {
 		if l, f := Terms(x.l); l != nil || f != x.want {
 			t.Error(x.l, l, f)
@@ -217,9 +220,10 @@ func TestTokenFaults(t *testing.T) {
 		l    []api.Token
 		want string
 	}{
-		{[]api.Token{name("!."), stop()}, "!."},
+		{[]api.Token{name("!."), tok(api.TokVar, "X"), stop()}, "!.(X)"},
 		{[]api.Token{name("!."), punc("(("), tok(api.TokVar, "X"), punc(")"), stop()}, "!.(X)"},
-		{[]api.Token{name("!."), punc("(("), name("a"), punc(","), name("b"), punc(")"), stop()}, "!.(a, b)"},
+		{[]api.Token{name("!:"), stop()}, "!:"},
+		{[]api.Token{name("!:"), punc("(("), name("a"), punc(","), name("b"), punc(")"), stop()}, "!:(a, b)"},
 	} {
 		if l, f := Terms(x.l); f.Code != api.OK || len(l) != 1 || show(l[0]) != x.want || Check(l[0]) != api.OK {
 			t.Error(x.l, l, f)

@@ -164,7 +164,7 @@ func (p *plain) named(t api.Token) api.Term {
 		x.Args = p.arguments(t.Text)
 	}
 	n := len(x.Args)
-	if t.Text == "{}" && n != 1 || t.Text == "[|]" && n != 2 || t.Text == "[]" && n != 0 || t.Text == "!." && n == 1 && x.Args[0].Kind != api.TVar {
+	if t.Text == "{}" && n != 1 || t.Text == "[|]" && n != 2 || t.Text == "[]" && n != 0 || t.Text == "!." && (n != 1 || x.Args[0].Kind != api.TVar) {
 		panic(api.Fault{At: t.At, Code: api.ErrSyntax})
 	}
 	return x

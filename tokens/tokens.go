@@ -239,6 +239,10 @@ func (s *scanner) readEnclosed(kind int) (api.Token, api.Fault) {
 		case i+1 < len(s.text):
 			i++
 			m, ok := meant(s.text[i], mark)
+			// A byte that no text has is met where it stands, and not as what the backslash has behind it.
+			if !inText(s.text[i]) {
+				return faultAt(i, api.ErrForm)
+			}
 			if !ok {
 				return faultAt(i-1, api.ErrSyntax)
 			}
