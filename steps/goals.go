@@ -90,7 +90,7 @@ func (r *reader) choice(at int, l []api.Term, goal part) api.Step {
 	return api.Step{Kind: api.SIf, Kids: kids, At: at}
 }
 
-// join makes a new version of each state variable of which one of some alternatives leaves another version, and makes each alternative leave it.
+// join makes a new version of each state variable of which one of some alternatives leaves another version, and makes each alternative leave it. What is added is the goal of no term, so it has the place of the whole; an alternative stays the goal of its own term, and keeps its place.
 func (r *reader) join(kids []api.Step, ends []ending, at int) {
 	changed := make([]bool, len(r.names))
 	for _, e := range ends {
@@ -116,7 +116,7 @@ func (r *reader) join(kids []api.Step, ends []ending, at int) {
 	}
 	for i, k := range kids {
 		if len(same[i]) > 0 {
-			kids[i] = api.Step{Kind: api.SAnd, Kids: slices.Concat([]api.Step{k}, same[i]), At: at}
+			kids[i] = api.Step{Kind: api.SAnd, Kids: slices.Concat([]api.Step{k}, same[i]), At: k.At}
 		}
 	}
 }

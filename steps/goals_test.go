@@ -106,7 +106,7 @@ func TestPlaces(t *testing.T) {
 		{"or", k[1].At, at(" ; cc") + 1}, {"kid", k[1].Kids[0].At, at("bb")}, {"if", k[1].Kids[1].At, at("->")}, {"no else", k[1].Kids[1].Kids[2].At, at("->")}, {"not", k[2].At, at("\\+")}, {"version", k[2].Kids[0].Args[1].At, at("!S), F")},
 		{"same", k[3].At, at("= (pred")}, {"side", k[3].Args[0].At, at("F =")}, {"lambda", k[3].Args[1].At, at(":- gg")}, {"lambda", c.Lams[0].At, at(":- gg")}, {"argument", c.Lams[0].Args[0].At, at("Z ::")}, {"mode", c.Lams[0].Modes[0].At, at("in)")}, {"body", c.Lams[0].Body.At, at("gg")}, {"field", c.Lams[0].Body.Args[0].At, at("^")},
 		{"if", k[4].At, at("else")}, {"then", k[4].Kids[1].At, at("ii")}, {"differ", k[4].Kids[2].At, at("\\=")}, {"same", k[4].Kids[2].Kids[0].At, at("\\=")}, {"some", k[5].At, at("some")}, {"higher", k[6].At, at("LL")}, {"version", k[6].Args[1].At, at("!.S")},
-		{"join", k[7].Kids[0].At, at(" ; nn") + 1}, {"join", same.At, at(" ; nn") + 1}, {"version", same.Args[0].At, at(" ; nn") + 1}, {"version", same.Args[1].At, at(" ; nn") + 1}, {"joined", k[7].Kids[0].Kids[0].At, at("mm")},
+		{"kid", k[7].Kids[0].At, at("mm")}, {"join", same.At, at(" ; nn") + 1}, {"version", same.Args[0].At, at(" ; nn") + 1}, {"version", same.Args[1].At, at(" ; nn") + 1}, {"joined", k[7].Kids[0].Kids[0].At, at("mm")},
 	} {
 		if x.got != x.want {
 			t.Errorf("%s: %d, not %d", x.what, x.got, x.want)
